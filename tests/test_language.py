@@ -1,0 +1,84 @@
+"""Some rules of LANGUAGE.md that a test can see, over every file of the package."""
+
+import ast
+import pathlib
+import re
+import unittest
+
+FOLDER = pathlib.Path(__file__).resolve().parent.parent / "roomtold"
+LIBRARY = {"heapq", "math", "itertools", "collections"}
+BUILTINS = set("""
+    len range enumerate zip min max sum abs sorted reversed int str bool list tuple dict set isinstance ord repr any all
+    divmod pow getattr hasattr setattr iter next map super property staticmethod classmethod
+    Exception ValueError TypeError KeyError IndexError LookupError ZeroDivisionError ArithmeticError OverflowError
+    RuntimeError NotImplementedError AttributeError StopIteration NotImplemented
+""".split())
+WORDS = """
+    type typing typing_extensions enum Enum IntEnum StrEnum Flag IntFlag Generic Protocol ABC ABCMeta namedtuple
+    NamedTuple TypedDict TYPE_CHECKING abstractmethod register mro elements open input law version_info with_traceback
+    add_note Meta _wall _WallAttr global async
+""".split()
+NODES = (ast.Global, ast.AsyncFunctionDef, ast.Await, ast.Div, ast.AnnAssign)
+
+
+class Language(unittest.TestCase):
+    def setUp(self):
+        self.files = {path: path.read_bytes().decode() for path in sorted(FOLDER.rglob("*.py"))}
+        self.trees = {path: ast.parse(text) for path, text in self.files.items()}
+
+    def walk(self, *kinds):
+        for path, tree in self.trees.items():
+            for node in ast.walk(tree):
+                if isinstance(node, kinds):
+                    yield f"{path.name}:{getattr(node, 'lineno', 0)}", node
+
+    def test_the_folder_holds_python_files_alone(self):
+        for path in FOLDER.rglob("*"):
+            if "__pycache__" not in path.parts and path.is_file():
+                self.assertRegex(path.name, r"^[a-z0-9_]+\.py$")
+        self.assertIn(FOLDER / "__init__.py", self.files)
+
+    def test_sizes_and_characters(self):
+        for path, text in self.files.items():
+            self.assertLessEqual(len(text.splitlines()), 399, path.name)
+            self.assertLessEqual(max(len(line) for line in text.splitlines()), 120, path.name)
+            self.assertRegex(text, r"\A[ -~\n]*\Z", path.name)
+        for place, node in self.walk(ast.FunctionDef):
+            self.assertLessEqual(node.end_lineno - node.lineno + 1, 40, place)
+
+    def test_words(self):
+        for path, text in self.files.items():
+            for word in WORDS:
+                self.assertIsNone(re.search(rf"\b{word}\b", text), (path.name, word))
+            self.assertIsNone(re.search("dataclass|overload|contextmanager", text), path.name)
+
+    def test_imports_are_of_the_package_by_full_names(self):
+        for place, node in self.walk(ast.Import, ast.ImportFrom):
+            self.assertIsInstance(node, ast.ImportFrom, place)
+            first = node.module.split(".")[0]
+            self.assertTrue(node.level == 0 and (first == "roomtold" or node.module in LIBRARY), place)
+            self.assertNotIn("*", [name.name for name in node.names], place)
+
+    def test_builtins(self):
+        known = set(dir(__import__("builtins")))
+        for place, node in self.walk(ast.Name):
+            if node.id in known:
+                self.assertIn(node.id, BUILTINS, place)
+                self.assertIsInstance(node.ctx, ast.Load, place)
+        for place, node in self.walk(ast.arg):
+            self.assertNotIn(node.arg, known, place)
+
+    def test_nothing_that_the_language_leaves_out(self):
+        for place, node in self.walk(*NODES):
+            self.fail(place)
+        for place, node in self.walk(ast.Constant):
+            self.assertNotIsInstance(node.value, (float, complex), place)
+            if isinstance(node.value, str):
+                self.assertNotIn("%", node.value, place)
+        for place, node in self.walk(ast.FunctionDef, ast.ClassDef):
+            for mark in node.decorator_list:
+                self.assertRegex(ast.unparse(mark), r"^(property|staticmethod|classmethod|\w+\.setter)$", place)
+
+
+if __name__ == "__main__":
+    unittest.main()
