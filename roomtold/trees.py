@@ -132,3 +132,18 @@ class Tree:
 
     def __eq__(self, other):
         return isinstance(other, Tree) and self.classes == other.classes and self._told == other._told
+
+
+def check_tree(tree):
+    """Raises for what is no tree."""
+    if not isinstance(tree, Tree):
+        raise BadArgument(tree)
+
+
+def check_rooms(tree, steps, rooms):
+    """Raises for what is no tree, no steps with as many bounds as it has classes, or no rooms of both."""
+    check_tree(tree)
+    if not isinstance(steps, Steps) or len(steps) != tree.classes:
+        raise BadArgument(steps)
+    if not are_rooms(rooms, steps.most) or len(rooms) != len(tree):
+        raise BadRooms(rooms)

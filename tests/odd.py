@@ -32,3 +32,12 @@ NO_ROWS = [
     True, False, None, 3, 1.5, "123", b"\x01\x02\x03", {1: 1, 2: 2, 3: 3}, {1, 2, 3}, range(1, 4), iter([1, 2, 3]),
     object(), EqualToAll(), Falling(),
 ]
+
+# No True and no False, though some are as good as that in a test.
+NO_ANSWERS = [0, 1, -1, "True", "above"] + [value for value in NO_INTEGERS if not isinstance(value, bool)]
+
+# No word, though some are equal to one.
+NO_WORDS = ["", " ", "Above", "abovebelow", "in  order", "In order", "Raise", b"raise"] + NO_INTEGERS
+
+# No object of a class of the program.
+NO_OBJECTS = [0, 3, "tree", (1, [0, 0, 0])] + NO_INTEGERS + NO_ROWS

@@ -5,14 +5,37 @@ import inspect
 import pathlib
 import unittest
 
-from roomtold import errors, steps, trees
+from roomtold import disks, errors, search, settings, steps, trees, writes
 
 PLACES = {
     errors: ["RoomError", "BadSteps", "BadTree", "BadRooms", "BadPage", "BadNode", "BadClass", "BadSize", "BadArgument",
              "BadNumber", "BadSetting", "BadChange", "BadCommand", "BadText", "NothingLeft"],
     steps: ["Steps"],
     trees: ["Tree"],
+    writes: ["raising", "lowering", "written", "stages"],
+    search: ["good_pages", "found", "looked_at", "behind", "out_of_sight", "going", "search_row", "searches"],
+    disks: ["Disk"],
+    settings: ["Setting", "deed_row", "done_whole", "done_part", "crashed"],
 }
+
+# The functions as the interface writes them, with what is given if nothing is said.
+FUNCTIONS = {
+    writes: {
+        "raising": "(tree, page, told, *, above=True)", "lowering": "(tree, node, told, *, above=False)",
+        "written": "(tree, row)", "stages": "(tree, row)",
+    },
+    search: {
+        "good_pages": "(tree, steps, rooms, size)", "found": "(tree, steps, rooms, size)",
+        "looked_at": "(tree, steps, rooms, size)", "behind": "(tree, steps, rooms, size)",
+        "out_of_sight": "(tree, steps, rooms, size)", "going": "(tree, steps, rooms, size)",
+        "search_row": "(tree, steps, rooms, size, *, above=False)", "searches": "(tree, steps, rooms, sizes)",
+    },
+    settings: {
+        "deed_row": "(setting, tree, deed)", "done_whole": "(setting, disk, deed)",
+        "done_part": "(setting, disk, deed, done)", "crashed": "(setting, disk, told)",
+    },
+}
+GENERATORS = [writes.stages, search.going, disks.Disk.trees]
 
 # The arguments behind the object itself; a property has none.
 METHODS = {
@@ -25,8 +48,20 @@ METHODS = {
         "leaf": ["page"], "way": ["page"], "greater": ["node"], "missed": [], "is_upright": None, "mended": [],
         "with_told": ["node", "told"], "__eq__": ["other"],
     },
+    disks.Disk: {
+        "__init__": ["tree"], "now": None, "flushed": None, "pending": None, "with_row": ["row"], "with_flush": [],
+        "__eq__": ["other"], "can_tell": ["node"], "trees": ["order"], "count": ["order"],
+        "can_have": ["value", "order"], "missable": ["order"], "missing": ["order"],
+    },
+    settings.Setting: {
+        "__init__": ["raises", "lowers", "flush_raises", "flush_lowers", "order", "mends"], "misses": None,
+        "changed": ["raises", "lowers", "flush_raises", "flush_lowers", "order", "mends"], "__eq__": ["other"],
+    },
 }
-STATIC = {trees.Tree: {"flat": ["classes", "pages", "told"], "exact": ["steps", "rooms"]}}
+STATIC = {
+    trees.Tree: {"flat": ["classes", "pages", "told"], "exact": ["steps", "rooms"]},
+    settings.Setting: {"every": []},
+}
 
 
 class Interface(unittest.TestCase):
@@ -52,6 +87,27 @@ class Interface(unittest.TestCase):
             for name, arguments in methods.items():
                 self.assertIsInstance(vars(kind)[name], staticmethod, name)
                 self.assertEqual(list(inspect.signature(getattr(kind, name)).parameters), arguments, name)
+
+    def test_functions_with_their_arguments(self):
+        for module, functions in FUNCTIONS.items():
+            for name, arguments in functions.items():
+                self.assertEqual(str(inspect.signature(getattr(module, name))), arguments, name)
+
+    def test_all_functions_that_are_listed_are_written_down_here(self):
+        for module, names in PLACES.items():
+            functions = [name for name in names if inspect.isfunction(getattr(module, name))]
+            self.assertEqual(sorted(FUNCTIONS.get(module, {})), sorted(functions))
+
+    def test_the_parts_of_a_setting_are_given_by_name_alone(self):
+        for method, defaults in [(settings.Setting.__init__, ["above", "below", False, False, "in order", False]),
+                                 (settings.Setting.changed, [None] * 6)]:
+            parts = list(inspect.signature(method).parameters.values())[1:]
+            self.assertEqual({part.kind for part in parts}, {inspect.Parameter.KEYWORD_ONLY})
+            self.assertEqual([part.default for part in parts], defaults)
+
+    def test_generators(self):
+        for generator in GENERATORS:
+            self.assertTrue(inspect.isgeneratorfunction(generator), generator)
 
 
 if __name__ == "__main__":

@@ -79,6 +79,48 @@ class Language(unittest.TestCase):
             for mark in node.decorator_list:
                 self.assertRegex(ast.unparse(mark), r"^(property|staticmethod|classmethod|\w+\.setter)$", place)
 
+    def functions(self):
+        for place, node in self.walk(ast.FunctionDef):
+            yield place, node, [part for row in node.body for part in ast.walk(row)]
+
+    def test_no_local_name_of_a_class_or_an_import_of_its_file(self):
+        for path, tree in self.trees.items():
+            taken = {row.name for row in tree.body if isinstance(row, (ast.ClassDef, ast.FunctionDef))}
+            taken |= {name.name for row in tree.body if isinstance(row, ast.ImportFrom) for name in row.names}
+            for node in ast.walk(tree):
+                if isinstance(node, ast.arg):
+                    self.assertNotIn(node.arg, taken, path.name)
+                if isinstance(node, ast.Name) and isinstance(node.ctx, ast.Store):
+                    self.assertNotIn(node.id, taken, path.name)
+
+    def test_a_generator_has_its_name_alone_and_is_gone_over_at_once(self):
+        names = [node.name for _, node, _ in self.functions()]
+        generators = [node.name for _, node, parts in self.functions()
+                      if any(isinstance(part, (ast.Yield, ast.YieldFrom)) for part in parts)]
+        for name in generators:
+            self.assertEqual(names.count(name), 1, name)
+        over = ["for", "list", "tuple", "dict", "sorted", "sum", "min", "max", "any", "all", "enumerate", "zip"]
+        for path, tree in self.trees.items():
+            at_once = {id(node.iter) for node in ast.walk(tree) if isinstance(node, (ast.For, ast.comprehension))}
+            at_once |= {id(node.value) for node in ast.walk(tree) if isinstance(node, ast.YieldFrom)}
+            for node in ast.walk(tree):
+                if isinstance(node, ast.Call) and isinstance(node.func, ast.Name) and node.func.id in over:
+                    at_once |= {id(given) for given in node.args}
+            for node in ast.walk(tree):
+                if isinstance(node, ast.Call) and getattr(node.func, "id", getattr(node.func, "attr", "")) in generators:
+                    self.assertIn(id(node), at_once, f"{path.name}:{node.lineno}")
+
+    def test_no_two_files_import_from_each_other(self):
+        ahead = {}
+        for path, tree in self.trees.items():
+            ahead[path.stem] = [row.module.split(".")[1] for row in tree.body
+                                if isinstance(row, ast.ImportFrom) and row.module.startswith("roomtold.")]
+        waiting = set(ahead)
+        while waiting:
+            free = {name for name in waiting if not waiting & set(ahead[name])}
+            self.assertNotEqual(free, set(), waiting)
+            waiting -= free
+
 
 if __name__ == "__main__":
     unittest.main()

@@ -8,28 +8,7 @@ from roomtold.steps import Steps
 from roomtold.trees import Tree
 from tests.checks import Case
 from tests.odd import NO_INTEGERS, NO_ROWS, EqualToAll, Falling
-
-PAGES = [2, 4, 8, 16, 32]
-STALE = [2, 2, 1, 2, 1, 1, 0]
-
-
-def all_trees(classes, pages):
-    """All trees with so many classes and pages."""
-    for told in itertools.product(range(classes + 1), repeat=2 * pages - 1):
-        yield Tree(classes, told)
-
-
-def small_trees():
-    yield from all_trees(1, 2)
-    yield from all_trees(2, 2)
-    yield from all_trees(3, 2)
-    yield from all_trees(1, 4)
-    yield from all_trees(2, 4)
-
-
-def counted(pages):
-    """A tree whose nodes are told unlike their neighbours."""
-    return Tree(8, [node * 5 % 9 for node in range(1, 2 * pages)])
+from tests.samples import PAGES, STALE, counted, small_trees
 
 
 class Making(Case):
