@@ -12,7 +12,7 @@ def _need(tree, steps, rooms, size):
     return steps.need(size)
 
 
-def _open_pages(tree, need):
+def _seen_pages(tree, need):
     """The pages whose whole ways are told the need or more: a search comes to no others."""
     if need is None:
         return []
@@ -22,7 +22,7 @@ def _open_pages(tree, need):
 def good_pages(tree, steps, rooms, size):
     """The pages that a search can find."""
     need = _need(tree, steps, rooms, size)
-    return [page for page in _open_pages(tree, need) if rooms[page] >= size]
+    return [page for page in _seen_pages(tree, need) if rooms[page] >= size]
 
 
 def found(tree, steps, rooms, size):
@@ -35,7 +35,7 @@ def looked_at(tree, steps, rooms, size):
     """The pages that a search looks at, told by the ways alone."""
     need = _need(tree, steps, rooms, size)
     pages = []
-    for page in _open_pages(tree, need):
+    for page in _seen_pages(tree, need):
         pages.append(page)
         if rooms[page] >= size:
             return pages

@@ -100,11 +100,8 @@ def is_deed(tree, value):
 
 def can_leave(setting, disk, value):
     """Whether any value is a list or tuple of the told classes of a tree that a crash can leave."""
-    tree = disk.now
-    # Of a wrong length they may be those of another tree.
-    if not are_told(value, tree.classes) or len(value) != len(tree.told):
-        return False
-    return disk.can_have(Tree(tree.classes, value), setting.order)
+    classes = disk.now.classes
+    return are_told(value, classes) and disk.can_have(Tree(classes, value), setting.order)
 
 
 def deed_row(setting, tree, deed):

@@ -5,7 +5,7 @@ import inspect
 import pathlib
 import unittest
 
-from roomtold import disks, errors, search, settings, steps, trees, writes
+from roomtold import disks, errors, hidden, papers, runs, search, settings, steps, trees, writes
 
 PLACES = {
     errors: ["RoomError", "BadSteps", "BadTree", "BadRooms", "BadPage", "BadNode", "BadClass", "BadSize", "BadArgument",
@@ -16,6 +16,9 @@ PLACES = {
     search: ["good_pages", "found", "looked_at", "behind", "out_of_sight", "going", "search_row", "searches"],
     disks: ["Disk"],
     settings: ["Setting", "deed_row", "done_whole", "done_part", "crashed"],
+    papers: ["miss_paper", "miss_papers", "is_miss_paper"],
+    runs: ["is_run", "run_end", "shows_miss", "miss_run"],
+    hidden: ["hidden_pages", "hidden_room", "clean_deeds", "cleaned"],
 }
 
 # The functions as the interface writes them, with what is given if nothing is said.
@@ -34,8 +37,17 @@ FUNCTIONS = {
         "deed_row": "(setting, tree, deed)", "done_whole": "(setting, disk, deed)",
         "done_part": "(setting, disk, deed, done)", "crashed": "(setting, disk, told)",
     },
+    papers: {"miss_paper": "(setting)", "miss_papers": "(setting)", "is_miss_paper": "(setting, value)"},
+    runs: {
+        "is_run": "(setting, tree, value)", "run_end": "(setting, tree, run)", "shows_miss": "(setting, tree, value)",
+        "miss_run": "(setting, classes, pages)",
+    },
+    hidden: {
+        "hidden_pages": "(tree, steps, rooms)", "hidden_room": "(tree, steps, rooms)",
+        "clean_deeds": "(tree, steps, rooms)", "cleaned": "(tree, steps, rooms)",
+    },
 }
-GENERATORS = [writes.stages, search.going, disks.Disk.trees]
+GENERATORS = [writes.stages, search.going, disks.Disk.trees, papers.miss_papers]
 
 # The arguments behind the object itself; a property has none.
 METHODS = {

@@ -107,7 +107,8 @@ class Language(unittest.TestCase):
                 if isinstance(node, ast.Call) and isinstance(node.func, ast.Name) and node.func.id in over:
                     at_once |= {id(given) for given in node.args}
             for node in ast.walk(tree):
-                if isinstance(node, ast.Call) and getattr(node.func, "id", getattr(node.func, "attr", "")) in generators:
+                called = getattr(node, "func", None)
+                if getattr(called, "id", getattr(called, "attr", "")) in generators:
                     self.assertIn(id(node), at_once, f"{path.name}:{node.lineno}")
 
     def test_no_two_files_import_from_each_other(self):

@@ -209,12 +209,13 @@ class Several(Case):
 
     def test_sizes_alike(self):
         tree = Tree.flat(3, 4, 3)
-        self.assertEqual(searches(tree, STEPS, ROOMS, [10, 10, 3, 12, 3]), ([3, 3, 0, None, 0], Tree(3, [3, 2, 3, 1, 2, 2, 3])))
+        behind_all = Tree(3, [3, 2, 3, 1, 2, 2, 3])
+        self.assertEqual(searches(tree, STEPS, ROOMS, [10, 10, 3, 12, 3]), ([3, 3, 0, None, 0], behind_all))
         self.assertEqual(searches(sizes=(6, 3), rooms=ROOMS, steps=STEPS, tree=Tree(3, STALE))[0], [None, 0])
 
     def test_no_sizes(self):
-        wrong = NO_ROWS + [[3, 0], [3, 13], [True], (3, None), [3, 6.0], [[3]], [(3,)], [EqualToAll()], (3, Falling()), STEPS]
-        for sizes in wrong:
+        wrong = [[3, 0], [3, 13], [True], (3, None), [3, 6.0], [[3]], [(3,)], [EqualToAll()], (3, Falling()), STEPS]
+        for sizes in NO_ROWS + wrong:
             self.raises(BadArgument, "value", sizes, searches, Tree(3, STALE), STEPS, ROOMS, sizes)
 
     def test_the_list_of_pages_belongs_to_the_caller(self):

@@ -13,9 +13,10 @@ from tests.odd import NO_ANSWERS, NO_INTEGERS, NO_OBJECTS, NO_ROWS, EqualToAll, 
 from tests.samples import PAGES, STALE, counted, small_trees, stale_tree, upright_tree
 
 NO_WRITES = [
-    (), (1,), (1, 1, 1), (0, 1), (8, 1), (-1, 1), (1, -1), (1, 4), (True, 1), (1, True), (False, 1), (1, False), (1.0, 1),
-    (1, 1.0), ("1", 1), (1, None), (None, 1), [1, 1], [], "11", 1, None, {1: 1}, (EqualToAll(), 1), (1, EqualToAll()),
-    (Falling(), 1), (1, Falling()), EqualToAll(), Falling(), ((1, 1),), (10 ** 100, 1), (1, 10 ** 100),
+    (), (1,), (1, 1, 1), (0, 1), (8, 1), (-1, 1), (1, -1), (1, 4), (True, 1), (1, True), (False, 1), (1, False),
+    (1.0, 1), (1, 1.0), ("1", 1), (1, None), (None, 1), [1, 1], [], "11", 1, None, {1: 1}, (EqualToAll(), 1),
+    (1, EqualToAll()), (Falling(), 1), (1, Falling()), EqualToAll(), Falling(), ((1, 1),), (10 ** 100, 1),
+    (1, 10 ** 100),
 ]
 NO_ROWS_OF_STALE = NO_ROWS + [((1, 1),), (), ((1, 1), (2, 1)), "", [[1, 1]], Tree(3, STALE)]
 NO_ROWS_OF_STALE += [[write] for write in NO_WRITES] + [[(1, 1), write] for write in NO_WRITES]
