@@ -128,13 +128,18 @@ def _flushes(setting, deed):
     return setting.flush_raises if deed[0] == "raise" else setting.flush_lowers
 
 
+def behind_row(disk, row, flushes):
+    """The disk behind a row of writes, with a flush behind each of them or without."""
+    # Without a write there is none that a flush could stand behind.
+    if row and flushes:
+        return disk.with_row(row).with_flush()
+    return disk.with_row(row)
+
+
 def done_whole(setting, disk, deed):
     """The disk behind a whole deed."""
     row = _checked_row(setting, disk, deed)
-    # Without a write there is none that a flush could stand behind.
-    if row and _flushes(setting, deed):
-        return disk.with_row(row).with_flush()
-    return disk.with_row(row)
+    return behind_row(disk, row, _flushes(setting, deed))
 
 
 def done_part(setting, disk, deed, done):

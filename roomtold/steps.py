@@ -88,3 +88,9 @@ class Steps:
 
     def __eq__(self, other):
         return isinstance(other, Steps) and self.most == other.most and self._bounds == other._bounds
+
+
+def check_steps(steps):
+    """Raises for what is no steps."""
+    if not isinstance(steps, Steps):
+        raise BadArgument(steps)

@@ -1,7 +1,7 @@
 """Trees: the told classes of pages, and of groups of pages."""
 
 from roomtold.errors import BadArgument, BadClass, BadNode, BadPage, BadRooms, BadTree
-from roomtold.steps import Steps, are_integers, is_integer
+from roomtold.steps import Steps, are_integers, check_steps, is_integer
 
 MOST_CLASSES = 8
 PAGES = (2, 4, 8, 16, 32)
@@ -50,8 +50,7 @@ class Tree:
     @staticmethod
     def exact(steps, rooms):
         """The tree that tells just the classes of the rooms."""
-        if not isinstance(steps, Steps):
-            raise BadArgument(steps)
+        check_steps(steps)
         if not are_rooms(rooms, steps.most):
             raise BadRooms(rooms)
         leaves = [steps.class_of(room) for room in rooms]

@@ -113,3 +113,96 @@ def anyhow(flushed, pending):
 
 def can_have(flushed, pending, order):
     return in_order(flushed, pending) if order == "in order" else anyhow(flushed, pending)
+
+
+def exact(bounds, rooms):
+    leaves = [class_of(bounds, room) for room in rooms]
+    return mend([None] + [0] * (len(rooms) - 1) + leaves)
+
+
+class PlayedTable:
+    """A live table over plain lists, with copies of all that was ahead of each change."""
+
+    def __init__(self, bounds, rooms, setting, drops="at once"):
+        self.bounds, self.setting, self.drops = bounds, setting, drops
+        told = exact(bounds, rooms)
+        self.state = {"rooms": list(rooms), "now": told, "flushed": list(told), "pending": []}
+        self.past, self.future = [], []
+
+    def change(self):
+        """Ahead of a change: what is now is kept."""
+        self.past.append({name: list(part) for name, part in self.state.items()})
+        self.future = []
+
+    def write(self, row, early):
+        for node, told in row:
+            self.state["now"][node] = told
+            self.state["pending"].append((node, told))
+            if early:
+                self.flush_all()
+
+    def flush_all(self):
+        self.state["flushed"], self.state["pending"] = list(self.state["now"]), []
+
+    def raised(self, page, told):
+        row = raise_page(list(self.state["now"]), page, told, self.setting.raises == "above")
+        self.write(row, self.setting.flush_raises)
+
+    def lowered(self, node, told):
+        row = lower_node(list(self.state["now"]), node, told, self.setting.lowers == "above")
+        self.write(row, self.setting.flush_lowers)
+
+    def put(self, size):
+        self.change()
+        rooms, now = self.state["rooms"], self.state["now"]
+        for part in search(now, self.bounds, rooms, size)[0]:
+            if part[0] == "lower":
+                self.lowered(part[1], part[2])
+            if part[0] == "found":
+                rooms[part[1]] -= size
+                self.lowered(len(rooms) + part[1], class_of(self.bounds, rooms[part[1]]))
+                return part[1]
+        return None
+
+    def drop(self, page, more):
+        self.change()
+        rooms = self.state["rooms"]
+        rooms[page] += more
+        told = class_of(self.bounds, rooms[page])
+        if self.drops == "at once" and self.state["now"][len(rooms) + page] < told:
+            self.raised(page, told)
+
+    def clean(self):
+        self.change()
+        rooms = self.state["rooms"]
+        for page, room in enumerate(rooms):
+            leaf, told = len(rooms) + page, class_of(self.bounds, room)
+            if self.state["now"][leaf] < told:
+                self.raised(page, told)
+            elif self.state["now"][leaf] > told:
+                self.lowered(leaf, told)
+
+    def flush(self):
+        self.change()
+        self.flush_all()
+
+    def crash(self, told):
+        self.change()
+        left = [None, *told]
+        self.state["now"] = mend(left) if self.setting.mends else left
+        self.flush_all()
+
+    def undo(self):
+        self.future.append(self.state)
+        self.state = self.past.pop()
+
+    def redo(self):
+        self.past.append(self.state)
+        self.state = self.future.pop()
+
+    def can_have(self):
+        return can_have(self.state["flushed"], self.state["pending"], self.setting.order)
+
+    def hidden(self):
+        rooms, now = self.state["rooms"], self.state["now"]
+        return sum(room for page, room in enumerate(rooms) if now[len(rooms) + page] < class_of(self.bounds, room))

@@ -5,7 +5,8 @@ import inspect
 import pathlib
 import unittest
 
-from roomtold import disks, errors, hidden, papers, runs, search, settings, steps, trees, writes
+from roomtold import (best, disks, errors, hidden, losses, papers, runs, search, settings, steps, sums, tables, trees,
+                      writes)
 
 PLACES = {
     errors: ["RoomError", "BadSteps", "BadTree", "BadRooms", "BadPage", "BadNode", "BadClass", "BadSize", "BadArgument",
@@ -19,6 +20,10 @@ PLACES = {
     papers: ["miss_paper", "miss_papers", "is_miss_paper"],
     runs: ["is_run", "run_end", "shows_miss", "miss_run"],
     hidden: ["hidden_pages", "hidden_room", "clean_deeds", "cleaned"],
+    tables: ["Table"],
+    losses: ["loss", "losses", "greatest_loss", "sum_of_losses", "idle_room", "is_idle", "idle_tree"],
+    best: ["cutting", "least_greatest", "best_steps", "least_paper", "shows_least"],
+    sums: ["sum_table", "least_sum", "best_by_sum", "shows_table"],
 }
 
 # The functions as the interface writes them, with what is given if nothing is said.
@@ -46,6 +51,19 @@ FUNCTIONS = {
         "hidden_pages": "(tree, steps, rooms)", "hidden_room": "(tree, steps, rooms)",
         "clean_deeds": "(tree, steps, rooms)", "cleaned": "(tree, steps, rooms)",
     },
+    losses: {
+        "loss": "(steps, size)", "losses": "(steps, sizes)", "greatest_loss": "(steps, sizes)",
+        "sum_of_losses": "(steps, weights)", "idle_room": "(steps, size)", "is_idle": "(steps, rooms, size)",
+        "idle_tree": "(steps, size, pages)",
+    },
+    best: {
+        "cutting": "(sizes, worst)", "least_greatest": "(sizes, many)", "best_steps": "(sizes, many)",
+        "least_paper": "(sizes, many)", "shows_least": "(sizes, many, value)",
+    },
+    sums: {
+        "sum_table": "(weights, many)", "least_sum": "(weights, many)", "best_by_sum": "(weights, many)",
+        "shows_table": "(weights, many, table)",
+    },
 }
 GENERATORS = [writes.stages, search.going, disks.Disk.trees, papers.miss_papers]
 
@@ -69,7 +87,14 @@ METHODS = {
         "__init__": ["raises", "lowers", "flush_raises", "flush_lowers", "order", "mends"], "misses": None,
         "changed": ["raises", "lowers", "flush_raises", "flush_lowers", "order", "mends"], "__eq__": ["other"],
     },
+    tables.Table: {
+        "__init__": ["steps", "rooms", "setting", "drops"], "steps": None, "setting": None, "rooms": None, "disk": None,
+        "tree": None, "drops": None, "__len__": [], "__getitem__": ["page"], "__iter__": [], "put": ["size"],
+        "drop": ["page", "more"], "clean": [], "flush": [], "crash": ["told"], "hidden": [], "undo": [], "redo": [],
+        "trial": [], "__eq__": ["other"],
+    },
 }
+SETTABLE = [(tables.Table, "drops")]
 STATIC = {
     trees.Tree: {"flat": ["classes", "pages", "told"], "exact": ["steps", "rooms"]},
     settings.Setting: {"every": []},
@@ -91,6 +116,7 @@ class Interface(unittest.TestCase):
                 method = vars(kind)[name]
                 if arguments is None:
                     self.assertIsInstance(method, property, name)
+                    self.assertIs(method.fset is not None, (kind, name) in SETTABLE, name)
                 else:
                     self.assertEqual(list(inspect.signature(method).parameters)[1:], arguments, name)
 
@@ -116,6 +142,10 @@ class Interface(unittest.TestCase):
             parts = list(inspect.signature(method).parameters.values())[1:]
             self.assertEqual({part.kind for part in parts}, {inspect.Parameter.KEYWORD_ONLY})
             self.assertEqual([part.default for part in parts], defaults)
+
+    def test_drops_is_given_by_name_alone(self):
+        part = inspect.signature(tables.Table.__init__).parameters["drops"]
+        self.assertEqual((part.kind, part.default), (inspect.Parameter.KEYWORD_ONLY, "at once"))
 
     def test_generators(self):
         for generator in GENERATORS:
