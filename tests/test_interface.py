@@ -5,8 +5,8 @@ import inspect
 import pathlib
 import unittest
 
-from roomtold import (best, disks, errors, hidden, losses, papers, runs, search, settings, steps, sums, tables, trees,
-                      writes)
+from roomtold import (best, consoles, disks, errors, hidden, ladders, losses, papers, runs, search, sessions, settings,
+                      steps, sums, tables, texts, trees, writes)
 
 PLACES = {
     errors: ["RoomError", "BadSteps", "BadTree", "BadRooms", "BadPage", "BadNode", "BadClass", "BadSize", "BadArgument",
@@ -24,6 +24,10 @@ PLACES = {
     losses: ["loss", "losses", "greatest_loss", "sum_of_losses", "idle_room", "is_idle", "idle_tree"],
     best: ["cutting", "least_greatest", "best_steps", "least_paper", "shows_least"],
     sums: ["sum_table", "least_sum", "best_by_sum", "shows_table"],
+    ladders: ["ladder", "sum_ladder", "fewest_bounds", "fewest_paper", "shows_fewest"],
+    texts: ["steps_text", "tree_text", "weights_text", "read_steps", "read_tree", "read_weights"],
+    sessions: ["Session"],
+    consoles: ["Console"],
 }
 
 # The functions as the interface writes them, with what is given if nothing is said.
@@ -64,6 +68,14 @@ FUNCTIONS = {
         "sum_table": "(weights, many)", "least_sum": "(weights, many)", "best_by_sum": "(weights, many)",
         "shows_table": "(weights, many, table)",
     },
+    ladders: {
+        "ladder": "(sizes)", "sum_ladder": "(weights)", "fewest_bounds": "(sizes, worst)",
+        "fewest_paper": "(sizes, worst)", "shows_fewest": "(sizes, worst, number, paper)",
+    },
+    texts: {
+        "steps_text": "(steps)", "tree_text": "(tree)", "weights_text": "(weights)", "read_steps": "(text)",
+        "read_tree": "(text)", "read_weights": "(text)",
+    },
 }
 GENERATORS = [writes.stages, search.going, disks.Disk.trees, papers.miss_papers]
 
@@ -93,8 +105,18 @@ METHODS = {
         "drop": ["page", "more"], "clean": [], "flush": [], "crash": ["told"], "hidden": [], "undo": [], "redo": [],
         "trial": [], "__eq__": ["other"],
     },
+    sessions.Session: {
+        "__init__": ["steps", "weights"], "steps": None, "limit": None, "weights": None, "__getitem__": ["size"],
+        "__setitem__": ["size", "weight"], "__contains__": ["size"], "__iter__": [], "__len__": [], "put": ["bound"],
+        "drop": ["bound"], "__ior__": ["other"], "forget": ["size"], "tune": ["many"], "undo": [], "redo": [],
+        "trial": [], "tried": ["bounds"],
+    },
+    consoles.Console: {
+        "__init__": ["steps", "weights"], "execute": ["line"], "__call__": ["line"], "steps": None, "weights": None,
+        "__len__": [],
+    },
 }
-SETTABLE = [(tables.Table, "drops")]
+SETTABLE = [(tables.Table, "drops"), (sessions.Session, "limit")]
 STATIC = {
     trees.Tree: {"flat": ["classes", "pages", "told"], "exact": ["steps", "rooms"]},
     settings.Setting: {"every": []},
