@@ -3,17 +3,17 @@
 from roomtold.disks import Disk
 from roomtold.settings import can_leave, check_setting, crashed, deed_row, done_part
 from roomtold.steps import is_integer
-from roomtold.trees import Tree, are_told
+from roomtold.trees import NODES, Tree, are_told
 
-# The least tree, of two pages and one class: what its three nodes can be told, ascending.
-LEAST_TOLD = ((0, 0, 0), (0, 0, 1), (0, 1, 0), (0, 1, 1), (1, 0, 0), (1, 0, 1), (1, 1, 0), (1, 1, 1))
-# The words stand in their order, too.
-DEEDS = {"lower": ("lower", 0, 0), "raise": ("raise", 0, 1)}
+DEEDS = {"raise": ("raise", 0, 1), "lower": ("lower", 0, 0)}
+# All upright beginnings from which a deed writes both the root and the leaf. Where it writes but one of them, the tree
+# is upright ahead of the write and behind it, so that no crash leaves another.
+BEGINNINGS = (((0, 0, 0), "raise"), ((1, 1, 0), "lower"))
 
 
 def _is_least_told(value):
     """Whether any value is a tuple of told classes of the least tree."""
-    return isinstance(value, tuple) and are_told(value, 1) and len(value) == len(LEAST_TOLD[0])
+    return isinstance(value, tuple) and are_told(value, 1) and len(value) == NODES[0]
 
 
 def is_miss_paper(setting, value):
@@ -36,16 +36,21 @@ def is_miss_paper(setting, value):
 def miss_papers(setting):
     """All miss papers of a setting, ascending."""
     check_setting(setting)
-    for beginning in LEAST_TOLD:
-        for word in DEEDS:
-            # A deed writes the leaf and the root at most.
-            for done in (1, 2):
-                for told in LEAST_TOLD:
-                    if is_miss_paper(setting, (beginning, word, done, told)):
-                        yield (beginning, word, done, told)
+    # No other setting has one, and one that misses does not mend.
+    if not setting.misses:
+        return
+    for beginning, word in BEGINNINGS:
+        disk = Disk(Tree(1, beginning))
+        for done in (1, 2):
+            part = done_part(setting, disk, DEEDS[word], done)
+            for told in sorted([tuple(tree.told) for tree in part.trees(setting.order)]):
+                # On the least tree a way is the root and a leaf.
+                if max(told) > told[0]:
+                    yield (beginning, word, done, told)
 
 
 def miss_paper(setting):
     """A miss paper of a setting, or None."""
-    papers = list(miss_papers(setting))
-    return papers[0] if papers else None
+    for paper in miss_papers(setting):
+        return paper
+    return None

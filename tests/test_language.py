@@ -111,6 +111,46 @@ class Language(unittest.TestCase):
                 if getattr(called, "id", getattr(called, "attr", "")) in generators:
                     self.assertIn(id(node), at_once, f"{path.name}:{node.lineno}")
 
+    def test_own_errors_alone_are_caught_and_made_where_they_are_raised(self):
+        own = {node.name for path, tree in self.trees.items() if path.stem == "errors" for node in tree.body
+               if isinstance(node, ast.ClassDef)}
+        for place, node in self.walk(ast.ExceptHandler):
+            kinds = node.type.elts if isinstance(node.type, ast.Tuple) else [node.type]
+            for kind in kinds:
+                self.assertIn(kind.id, own, place)
+        for place, node in self.walk(ast.Raise):
+            self.assertIsInstance(node.exc, ast.Call, place)
+            self.assertIn(node.exc.func.id, own | {"TypeError"}, place)
+            self.assertTrue(node.cause is None or isinstance(node.cause, ast.Name), place)
+
+    def test_is_stands_beside_none_true_and_false(self):
+        for place, node in self.walk(ast.Compare):
+            for sign, right in zip(node.ops, node.comparators):
+                if isinstance(sign, (ast.Is, ast.IsNot)):
+                    self.assertTrue(isinstance(right, ast.Constant) and right.value in (None, True, False), place)
+
+    def test_a_propertys_name_means_nothing_else_in_a_class(self):
+        properties, methods = set(), set()
+        for _, kind in self.walk(ast.ClassDef):
+            for row in kind.body:
+                if isinstance(row, ast.FunctionDef):
+                    marks = [ast.unparse(mark) for mark in row.decorator_list]
+                    (properties if "property" in marks else methods).add((row.name, *marks))
+        names = {name for name, _ in properties}
+        plain = {row[0] for row in methods if len(row) == 1}
+        stored = {node.attr for _, node in self.walk(ast.Attribute) if isinstance(node.ctx, ast.Store)}
+        self.assertEqual((names & plain, plain & stored), (set(), set()))
+        # The console sets this one by its setter.
+        self.assertEqual(names & stored, {"limit"})
+
+    def test_what_leaves_a_context_only_assigns(self):
+        for place, node, _ in self.functions():
+            if node.name == "__exit__":
+                for part in ast.walk(node):
+                    self.assertNotIsInstance(part, (ast.Call, ast.BinOp, ast.Subscript, ast.Raise, ast.Return), place)
+                tests = [ast.unparse(part.test) for part in ast.walk(node) if isinstance(part, ast.If)]
+                self.assertEqual(tests, ["kind is not None"])
+
     def test_no_two_files_import_from_each_other(self):
         ahead = {}
         for path, tree in self.trees.items():

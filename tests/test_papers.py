@@ -1,6 +1,7 @@
 """Promises 11 and 1 (b): miss papers and their judge; with promise 2, as far as it speaks of them."""
 
 import itertools
+import timeit
 import unittest
 
 from roomtold.disks import Disk
@@ -89,6 +90,27 @@ class Papers(Case):
         for paper in miss_papers(Setting(raises="below")):
             self.assertEqual([part.__class__ for part in paper], [tuple, str, int, tuple])
             self.assertEqual({told.__class__ for told in paper[0] + paper[3]}, {int})
+
+
+class Accepted(Case):
+    def test_the_same_papers_in_the_same_order_as_the_judge_accepts(self):
+        for setting in Setting.every():
+            # All tuples of the form, ascending, with some more writes than any deed has.
+            forms = itertools.product(TOLD, ["lower", "raise"], range(1, 5), TOLD)
+            accepted = [value for value in forms if is_miss_paper(setting, value)]
+            self.assertEqual(list(miss_papers(setting)), accepted, parts_of(setting))
+            self.assertEqual([value.__class__ for value in miss_papers(setting)], [tuple] * len(accepted))
+            if accepted:
+                self.assertIn(miss_paper(setting), accepted)
+            else:
+                self.assertIsNone(miss_paper(setting))
+
+    def test_quickly(self):
+        # The quickest of some calls, as others may be held up by the machine.
+        for call in (lambda setting: list(miss_papers(setting)), miss_paper):
+            for setting in Setting.every():
+                took = min(timeit.repeat(lambda: call(setting), number=4, repeat=9)) / 4
+                self.assertLess(took, 0.00025, parts_of(setting))
 
 
 class Judge(Case):
